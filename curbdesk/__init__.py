@@ -1,0 +1,1 @@
+"""Curbdesk: a desk for finite puzzles in which every conclusion is a join of boxes."""

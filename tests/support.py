@@ -1,0 +1,114 @@
+"""What several test files need: a check of how functions treat arguments and results, and slow answers."""
+
+import copy
+import itertools
+import random
+import unittest
+
+
+def mutables(thing):
+    """Return all lists and dictionaries in a thing, once for each place where they stand."""
+    found = []
+    if isinstance(thing, (list, dict)):
+        found.append(thing)
+    if isinstance(thing, dict):
+        parts = list(thing.keys()) + list(thing.values())
+    elif isinstance(thing, (list, tuple)):
+        parts = list(thing)
+    else:
+        parts = []
+    for part in parts:
+        found.extend(mutables(part))
+    return found
+
+
+def spoil(thing):
+    """Change all lists and dictionaries in a thing."""
+    for part in mutables(thing):
+        if isinstance(part, list):
+            part.append("spoiled")
+        else:
+            part["spoiled"] = "spoiled"
+
+
+class DeskCase(unittest.TestCase):
+    """A test case that also looks at what a call does to its arguments and to what it has returned."""
+
+    maxDiff = None
+
+    def ask(self, function, *args, **named):
+        """Call, check point 2 of the document, and return the result."""
+        kept = copy.deepcopy((args, named)) if not self.has_objects(args) else None
+        result = function(*args, **named)
+        if kept is not None:
+            self.assertEqual((args, named), kept, "the arguments were changed")
+        self.check_new(result, (args, named))
+        expected = copy.deepcopy(result)
+        spoil(result)
+        again = function(*args, **named)
+        self.assertEqual(again, expected, "asking twice gave two results")
+        self.check_plain(again)
+        return again
+
+    def has_objects(self, args):
+        plain = (int, str, list, tuple, dict, type(None))
+        return not all(isinstance(arg, plain) for arg in args)
+
+    def check_new(self, result, given):
+        places = [id(part) for part in mutables(result)]
+        self.assertEqual(len(places), len(set(places)), "a list or dictionary stands at two places")
+        old = {id(part) for part in mutables(given)}
+        self.assertFalse(old & set(places), "a list or dictionary of an argument was returned")
+
+    def check_plain(self, thing, kinds=(int, str, bool, type(None))):
+        """Check that numbers are plain integers, and True and False at most the whole result."""
+        if isinstance(thing, dict):
+            parts = list(thing.keys()) + list(thing.values())
+        elif isinstance(thing, (list, tuple)):
+            parts = list(thing)
+        else:
+            self.assertIn(type(thing), kinds)
+            parts = []
+        for part in parts:
+            self.check_plain(part, (int, str, type(None)))
+
+    def fails(self, error, attributes, function, *args, **named):
+        """Check that a call raises exactly this error with these attributes, and changes no argument."""
+        kept = copy.deepcopy((args, named)) if not self.has_objects(args) else None
+        with self.assertRaises(ValueError) as caught:
+            function(*args, **named)
+        self.assertIs(type(caught.exception), error)
+        self.assertEqual(vars(caught.exception), attributes)
+        if kept is not None:
+            self.assertEqual((args, named), kept, "the arguments were changed")
+        return caught.exception
+
+
+def all_in(box, names=None):
+    """Return all assignments of the names that a box holds, in order. Slow, and plain."""
+    if names is None:
+        names = list(box)
+    sides = [box[name] for name in names]
+    return [dict(zip(names, values)) for values in itertools.product(*sides)]
+
+
+def held(box, values):
+    return all(values[name] in side for name, side in box.items())
+
+
+def random_side(source, top, *, least=0):
+    size = source.randint(least, top)
+    return sorted(source.sample(range(-1, top), size))
+
+
+def random_box(source, names, top, *, least=0):
+    return {name: random_side(source, top, least=least) for name in names}
+
+
+def seeded(number):
+    return random.Random(number)
+
+
+def wide_box(names=20, values=20):
+    """Return a box at the full size of point 3: its assignments cannot be gone through."""
+    return {f"n{number}": list(range(-5, values - 5)) for number in range(names)}

@@ -1,0 +1,102 @@
+"""The interface: each name stands in the file under which it is listed, with the listed arguments."""
+
+import ast
+import importlib
+import inspect
+import pathlib
+import unittest
+
+PACKAGE = pathlib.Path(__file__).resolve().parent.parent / "curbdesk"
+
+FUNCTIONS = {
+    "sides": {
+        "side_of": "(values)",
+        "common": "(first, second)",
+        "united": "(first, second)",
+        "without": "(first, second)",
+        "is_within": "(first, second)",
+        "next_value": "(side, least)",
+    },
+    "boxes": {
+        "room": "(box)",
+        "holds": "(box, values)",
+        "box_within": "(inner, outer)",
+        "filled": "(box, domains)",
+        "trimmed": "(box, domains)",
+        "meet_boxes": "(first, second)",
+        "join_boxes": "(first, second, name)",
+    },
+    "ranks": {
+        "assignment_at": "(domains, number)",
+        "number_of": "(domains, values)",
+    },
+    "joins": {
+        "covered_by_two": "(first, second, box)",
+        "join_back": "(domains, trail, name)",
+    },
+}
+
+CLASSES = {
+    "errors": {
+        "DeskError": None,
+        "UnknownName": {"__init__": "(self, name)"},
+        "RepeatedName": {"__init__": "(self, name)"},
+        "UnknownValue": {"__init__": "(self, name, value)"},
+        "RepeatedValue": {"__init__": "(self, value)"},
+        "UnknownKey": {"__init__": "(self, key)"},
+        "RepeatedKey": {"__init__": "(self, key)"},
+        "EmptyRule": None,
+        "BadRow": {"__init__": "(self, row)"},
+        "BadBounds": {"__init__": "(self, low, high)"},
+        "BadNumber": {"__init__": "(self, number)"},
+        "BadStep": {"__init__": "(self, position)"},
+        "NoMark": {"__init__": "(self, number)"},
+        "NotStruck": {"__init__": "(self, name, value)"},
+        "BadOrder": {"__init__": "(self, names)"},
+        "NotBare": {"__init__": "(self, found)"},
+        "NoClash": None,
+        "HoldsAnswer": {"__init__": "(self, answer)"},
+        "BadLine": {"__init__": "(self, number, fault)"},
+        "UnknownLine": {"__init__": "(self, number)"},
+        "BadText": {"__init__": "(self, number)"},
+        "NothingToUndo": None,
+        "NothingToRedo": None,
+        "UnknownStep": {"__init__": "(self, number)"},
+        "BadDeed": {"__init__": "(self, position)"},
+    },
+}
+
+
+def defined_in(module, kind):
+    """Return the functions, or the classes, that the file of a module defines itself."""
+    tree = ast.parse((PACKAGE / f"{module}.py").read_text())
+    return {node.name: node for node in tree.body if isinstance(node, kind)}
+
+
+class InterfaceTest(unittest.TestCase):
+    def test_functions(self):
+        for module, functions in FUNCTIONS.items():
+            defined = defined_in(module, ast.FunctionDef)
+            loaded = importlib.import_module(f"curbdesk.{module}")
+            for name, arguments in functions.items():
+                self.assertIn(name, defined)
+                self.assertEqual(str(inspect.signature(getattr(loaded, name))), arguments, name)
+
+    def test_classes(self):
+        for module, classes in CLASSES.items():
+            defined = defined_in(module, ast.ClassDef)
+            loaded = importlib.import_module(f"curbdesk.{module}")
+            for name, methods in classes.items():
+                self.assertIn(name, defined)
+                self.check_methods(defined[name], getattr(loaded, name), methods or {})
+
+    def check_methods(self, node, loaded, methods):
+        in_the_class = {part.name for part in node.body if isinstance(part, ast.FunctionDef)}
+        for method, arguments in methods.items():
+            self.assertIn(method, in_the_class)
+            found = str(inspect.signature(vars(loaded)[method]))
+            self.assertEqual(found, arguments, f"{node.name}.{method}")
+
+
+if __name__ == "__main__":
+    unittest.main()
