@@ -84,6 +84,59 @@ class DeskCase(unittest.TestCase):
         return caught.exception
 
 
+class RuleCase(DeskCase):
+    """A test case that compares a rule with what a plain test of single assignments says of it."""
+
+    # The word of the certificates of the kind of rule that is tested.
+    word = None
+
+    def check_rule(self, rule, box, is_allowed):
+        """Check the methods of points 14 and 15 for a box that is small enough to go through."""
+        inside = all_in(box, rule.names)
+        allowed = [values for values in inside if is_allowed(values)]
+        for values in inside:
+            self.assertIs(rule.allows(values), is_allowed(values))
+        witness = self.ask(rule.witness, box)
+        self.assertEqual(witness, allowed[0] if allowed else None)
+        for name in rule.names:
+            supported = sorted({values[name] for values in allowed})
+            self.assertEqual(self.ask(rule.supported, box, name), supported)
+        self.check_certificate(rule, box, bool(allowed))
+
+    def check_certificate(self, rule, box, open_box):
+        certificate = self.ask(rule.certificate, box)
+        empty = [name for name in rule.names if not box[name]]
+        if open_box:
+            self.assertIsNone(certificate)
+        elif empty:
+            self.assertEqual(certificate, ("empty", empty[0]))
+        else:
+            self.assertEqual(certificate[0], self.word)
+        if certificate is not None:
+            self.assertIs(type(certificate), tuple)
+            self.assertIs(self.ask(rule.accepts, box, certificate), True)
+        for name in list(box) + ["nobody"]:
+            accepted = self.ask(rule.accepts, box, ("empty", name))
+            self.assertIs(accepted, name in rule.names and not box[name])
+        self.check_words_of_others(rule, box)
+
+    def check_words_of_others(self, rule, box):
+        """No kind accepts a word of another kind, also not for a bare box or an empty side."""
+        names = list(rule.names)
+        contents = {
+            "blame": [[], names, names[:1]],
+            "full": [[], [0], [0, 1]],
+            "layers": [[[]], [[0], []], [[0]] + [[] for _ in names], [[0], [1, 2]]],
+            "climb": [[], [0]],
+            "crowd": [[], names, names[:1], names[:2]],
+            "want": [[], [0], [1]],
+        }
+        for word, samples in contents.items():
+            for content in samples:
+                if word != self.word:
+                    self.assertIs(rule.accepts(box, (word, content)), False, (word, content))
+
+
 def all_in(box, names=None):
     """Return all assignments of the names that a box holds, in order. Slow, and plain."""
     if names is None:

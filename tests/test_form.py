@@ -1,8 +1,11 @@
 """The form of the code: those rules of the language that a test can read off the files."""
 
 import ast
+import builtins
+import io
 import pathlib
 import re
+import tokenize
 import unittest
 
 PACKAGE = pathlib.Path(__file__).resolve().parent.parent / "curbdesk"
@@ -20,7 +23,14 @@ METHODS = set(
 BARRED_NODES = (
     ast.AsyncFunctionDef, ast.AsyncFor, ast.AsyncWith, ast.Await, ast.Import, ast.Div, ast.MatMult,
 )
-BARRED_NAMES = {"register", "mro", "elements", "open", "input", "law", "version_info", "type", "eval", "exec", "id"}
+BARRED_NAMES = {name for name in dir(builtins) if not name.startswith("__")} | set(
+    "register mro elements law version_info with_traceback add_note attrgetter builtins gc importlib methodcaller os "
+    "sys".split()
+)
+BARRED_WORDS = re.compile(
+    r"\b(type|typing|typing_extensions|enum|Enum|IntEnum|StrEnum|Flag|IntFlag|Generic|Protocol|ABC|ABCMeta|namedtuple|"
+    r"NamedTuple|TypedDict|TYPE_CHECKING|abstractmethod)\b|dataclass|overload|contextmanager"
+)
 
 
 def parsed():
@@ -97,6 +107,18 @@ class FormTest(unittest.TestCase):
                     if not isinstance(node, (ast.ClassDef, ast.FunctionDef)):
                         self.assertNotIn(name, imported | classes, place)
                     self.assertTrue(name == "__init__" or not name.startswith("__"), place)
+
+    def test_words_and_strings(self):
+        for path, text, _ in parsed():
+            for token in tokenize.generate_tokens(io.StringIO(text).readline):
+                place = f"{path.name} {token.start[0]}"
+                if token.type == tokenize.STRING and token.string.startswith('"""'):
+                    continue
+                if token.type != tokenize.COMMENT:
+                    self.assertNotRegex(token.string, BARRED_WORDS, place)
+                if token.type == tokenize.STRING:
+                    self.assertNotIn("%", token.string, place)
+                self.assertNotRegex(token.string, r"_wall|_WallAttr|\bglobal\b|\basync\b", place)
 
     def imported_names(self, tree):
         return {alias.name for node in tree.body if isinstance(node, ast.ImportFrom) for alias in node.names}

@@ -34,6 +34,25 @@ FUNCTIONS = {
         "covered_by_two": "(first, second, box)",
         "join_back": "(domains, trail, name)",
     },
+    "plans": {
+        "join_plan": "(boxes, target)",
+        "run_plan": "(boxes, steps)",
+    },
+    "largest": {
+        "largest_boxes": "(boxes)",
+    },
+    "layers": {
+        "sum_layers": "(terms, box)",
+        "live_layers": "(terms, box, *, low=None, high=None)",
+    },
+}
+
+RULE_METHODS = {
+    "allows": "(self, values)",
+    "witness": "(self, box)",
+    "supported": "(self, box, name)",
+    "certificate": "(self, box)",
+    "accepts": "(self, box, certificate)",
 }
 
 CLASSES = {
@@ -63,6 +82,15 @@ CLASSES = {
         "NothingToRedo": None,
         "UnknownStep": {"__init__": "(self, number)"},
         "BadDeed": {"__init__": "(self, position)"},
+    },
+    "tables": {
+        "Table": {"__init__": "(self, names, rows)", **RULE_METHODS},
+    },
+    "bans": {
+        "Ban": {"__init__": "(self, names, rows)", **RULE_METHODS},
+    },
+    "sums": {
+        "Sum": {"__init__": "(self, terms, *, low=None, high=None)", **RULE_METHODS},
     },
 }
 
