@@ -3,7 +3,11 @@
 import copy
 import itertools
 import random
+import signal
 import unittest
+
+# Far more than any test needs; going through all assignments of a large box takes longer than that.
+MOST_SECONDS = 90
 
 
 def mutables(thing):
@@ -35,6 +39,14 @@ class DeskCase(unittest.TestCase):
     """A test case that also looks at what a call does to its arguments and to what it has returned."""
 
     maxDiff = None
+
+    def setUp(self):
+        signal.signal(signal.SIGALRM, self.too_long)
+        signal.alarm(MOST_SECONDS)
+        self.addCleanup(signal.alarm, 0)
+
+    def too_long(self, *_):
+        raise AssertionError("the test takes too long")
 
     def ask(self, function, *args, **named):
         """Call, check point 2 of the document, and return the result."""
