@@ -1,6 +1,7 @@
-"""What several kinds of rules share: checks of names and rows, and the certificate of an empty side."""
+"""What several kinds of rules share: checks of names and rows, and the certificates of more than one kind."""
 
 from curbdesk.errors import BadRow, EmptyRule, RepeatedName
+from curbdesk.sides import side_of
 
 
 def checked_names(names):
@@ -49,3 +50,19 @@ def first_empty(names, box):
 def shows_empty(names, box, name):
     """Tell whether `name` is one of the names and has an empty side in the box."""
     return name in names and len(box[name]) == 0
+
+
+def union_of(names, box):
+    """Return the side of the values that the side of at least one of the names contains."""
+    return side_of([value for name in names for value in box[name]])
+
+
+def is_crowd(names, box, highs, crowd):
+    """Tell whether the sides of the crowd, some of the names, have too little room for it under `highs`."""
+    earlier = set()
+    for name in crowd:
+        if name not in names or name in earlier:
+            return False
+        earlier.add(name)
+    union = union_of(crowd, box)
+    return all([value in highs for value in union]) and sum([highs[value] for value in union]) < len(crowd)

@@ -99,8 +99,12 @@ class DeskCase(unittest.TestCase):
 class RuleCase(DeskCase):
     """A test case that compares a rule with what a plain test of single assignments says of it."""
 
-    # The word of the certificates of the kind of rule that is tested.
-    word = None
+    # The words of the certificates of the kind of rule that is tested, besides "empty".
+    words = ()
+
+    def expected_word(self, rule, box):
+        """Return the word of the certificate for a bare box without empty sides."""
+        return self.words[0]
 
     def check_rule(self, rule, box, is_allowed):
         """Check the methods of points 14 and 15 for a box that is small enough to go through."""
@@ -123,7 +127,7 @@ class RuleCase(DeskCase):
         elif empty:
             self.assertEqual(certificate, ("empty", empty[0]))
         else:
-            self.assertEqual(certificate[0], self.word)
+            self.assertEqual(certificate[0], self.expected_word(rule, box))
         if certificate is not None:
             self.assertIs(type(certificate), tuple)
             self.assertIs(self.ask(rule.accepts, box, certificate), True)
@@ -145,7 +149,7 @@ class RuleCase(DeskCase):
         }
         for word, samples in contents.items():
             for content in samples:
-                if word != self.word:
+                if word not in self.words:
                     self.assertIs(rule.accepts(box, (word, content)), False, (word, content))
 
 
@@ -177,3 +181,32 @@ def seeded(number):
 def wide_box(names=20, values=20):
     """Return a box at the full size of point 3: its assignments cannot be gone through."""
     return {f"n{number}": list(range(-5, values - 5)) for number in range(names)}
+
+
+def break_of(edges, box, steps):
+    """Return the place of the step at which a climb breaks, or None. Plain, word by word as point 18 says."""
+    values = {name: min(box[name]) for first, second, _ in edges for name in (first, second)}
+    for place, position in enumerate(steps):
+        first, second, gap = edges[position]
+        least = values[first] - gap
+        if values[second] < least:
+            further = [value for value in box[second] if value >= least]
+            if not further:
+                return place
+            values[second] = min(further)
+    return None
+
+
+def random_edges(source, names, most, *, low=-3, high=3):
+    edges = []
+    for _ in range(source.randint(1, most)):
+        edges.append((source.choice(names), source.choice(names), source.randint(low, high)))
+    return edges
+
+
+def meets(edges, values):
+    return all(values[first] - values[second] <= gap for first, second, gap in edges)
+
+
+def names_of(edges):
+    return list(dict.fromkeys(name for first, second, _ in edges for name in (first, second)))

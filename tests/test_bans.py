@@ -39,7 +39,7 @@ class BanMakingTest(RuleCase):
 
 
 class BanTest(RuleCase):
-    word = "full"
+    words = ("full",)
 
     def test_allows(self):
         ban = Ban(["x", "y"], [(1, 2), (2, 1)])

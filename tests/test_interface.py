@@ -45,6 +45,17 @@ FUNCTIONS = {
         "sum_layers": "(terms, box)",
         "live_layers": "(terms, box, *, low=None, high=None)",
     },
+    "climbs": {
+        "least_climb": "(edges, box)",
+    },
+    "cycles": {
+        "loosest": "(edges)",
+    },
+    "fits": {
+        "full_fit": "(box, highs)",
+        "wanted_fit": "(box, lows)",
+        "merged_fit": "(full, part)",
+    },
 }
 
 RULE_METHODS = {
@@ -91,6 +102,15 @@ CLASSES = {
     },
     "sums": {
         "Sum": {"__init__": "(self, terms, *, low=None, high=None)", **RULE_METHODS},
+    },
+    "rings": {
+        "Ring": {"__init__": "(self, edges)", "highest": "(self, box)", **RULE_METHODS},
+    },
+    "unlike": {
+        "Unlike": {"__init__": "(self, names)", **RULE_METHODS},
+    },
+    "counts": {
+        "Counts": {"__init__": "(self, names, limits)", **RULE_METHODS},
     },
 }
 

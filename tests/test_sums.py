@@ -44,7 +44,7 @@ class SumMakingTest(RuleCase):
 
 
 class SumTest(RuleCase):
-    word = "layers"
+    words = ("layers",)
 
     def test_allows(self):
         rule = Sum([(2, "x"), (-1, "y")], low=0, high=3)

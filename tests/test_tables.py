@@ -53,7 +53,7 @@ class TableMakingTest(RuleCase):
 
 
 class TableTest(RuleCase):
-    word = "blame"
+    words = ("blame",)
 
     def test_allows(self):
         table = Table(["x", "y"], ROWS[:2])
