@@ -1,7 +1,7 @@
 """Boxes: dictionaries from names to sides, and their forms in domains (points 5 to 8)."""
 
-from curbdesk.errors import UnknownName
-from curbdesk.sides import common, is_within, united
+from curbdesk.errors import RepeatedName, UnknownName
+from curbdesk.sides import common, is_within, side_of, united
 
 
 def room(box):
@@ -26,6 +26,16 @@ def box_within(inner, outer):
         if name not in inner or not is_within(inner[name], side):
             return False
     return True
+
+
+def domains_of(pairs):
+    """Return domains for pairs of a name and integers in any order; no name occurs twice."""
+    earlier = set()
+    for name, _ in pairs:
+        if name in earlier:
+            raise RepeatedName(name)
+        earlier.add(name)
+    return [(name, side_of(values)) for name, values in pairs]
 
 
 def copied_box(box):

@@ -6,6 +6,13 @@ import random
 import signal
 import unittest
 
+from curbdesk.bans import Ban
+from curbdesk.counts import Counts
+from curbdesk.rings import Ring
+from curbdesk.sums import Sum
+from curbdesk.tables import Table
+from curbdesk.unlike import Unlike
+
 # Far more than any test needs; going through all assignments of a large box takes longer than that.
 MOST_SECONDS = 90
 
@@ -35,6 +42,20 @@ def spoil(thing):
             part["spoiled"] = "spoiled"
 
 
+def is_plain(thing):
+    """Tell whether a thing consists of numbers, strings, lists, tuples and dictionaries alone."""
+    if isinstance(thing, dict):
+        return all(is_plain(part) for part in list(thing.keys()) + list(thing.values()))
+    if isinstance(thing, (list, tuple)):
+        return all(is_plain(part) for part in thing)
+    return thing is None or isinstance(thing, (int, str))
+
+
+def plain_parts(args, named):
+    """Return the arguments that are no objects of the program and have none in them."""
+    return [arg for arg in list(args) + list(named.values()) if is_plain(arg)]
+
+
 class DeskCase(unittest.TestCase):
     """A test case that also looks at what a call does to its arguments and to what it has returned."""
 
@@ -50,21 +71,16 @@ class DeskCase(unittest.TestCase):
 
     def ask(self, function, *args, **named):
         """Call, check point 2 of the document, and return the result."""
-        kept = copy.deepcopy((args, named)) if not self.has_objects(args) else None
+        kept = copy.deepcopy(plain_parts(args, named))
         result = function(*args, **named)
-        if kept is not None:
-            self.assertEqual((args, named), kept, "the arguments were changed")
-        self.check_new(result, (args, named))
+        self.assertEqual(plain_parts(args, named), kept, "the arguments were changed")
+        self.check_new(result, plain_parts(args, named))
         expected = copy.deepcopy(result)
         spoil(result)
         again = function(*args, **named)
         self.assertEqual(again, expected, "asking twice gave two results")
         self.check_plain(again)
         return again
-
-    def has_objects(self, args):
-        plain = (int, str, list, tuple, dict, type(None))
-        return not all(isinstance(arg, plain) for arg in args)
 
     def check_new(self, result, given):
         places = [id(part) for part in mutables(result)]
@@ -86,13 +102,12 @@ class DeskCase(unittest.TestCase):
 
     def fails(self, error, attributes, function, *args, **named):
         """Check that a call raises exactly this error with these attributes, and changes no argument."""
-        kept = copy.deepcopy((args, named)) if not self.has_objects(args) else None
+        kept = copy.deepcopy(plain_parts(args, named))
         with self.assertRaises(ValueError) as caught:
             function(*args, **named)
         self.assertIs(type(caught.exception), error)
         self.assertEqual(vars(caught.exception), attributes)
-        if kept is not None:
-            self.assertEqual((args, named), kept, "the arguments were changed")
+        self.assertEqual(plain_parts(args, named), kept, "the arguments were changed")
         return caught.exception
 
 
@@ -181,6 +196,69 @@ def seeded(number):
 def wide_box(names=20, values=20):
     """Return a box at the full size of point 3: its assignments cannot be gone through."""
     return {f"n{number}": list(range(-5, values - 5)) for number in range(names)}
+
+
+def random_rule(source, names):
+    """Return a rule of any kind over some of the names, for values from 0 to 3."""
+    some = source.sample(names, source.randint(1, min(3, len(names))))
+    rows = [[source.randint(0, 3) for _ in some] for _ in range(source.randint(2, 9))]
+    low = source.randint(-3, 4)
+    kind = source.choice(["table", "ban", "sum", "ring", "unlike", "counts"])
+    if kind == "table":
+        return Table(some, rows)
+    if kind == "ban":
+        return Ban(some, rows)
+    if kind == "sum":
+        return Sum([(source.randint(-2, 2), name) for name in some], low=low, high=low + source.randint(0, 5))
+    if kind == "ring":
+        return Ring(random_edges(source, some, 3, low=-2, high=2))
+    if kind == "unlike":
+        return Unlike(some)
+    return Counts(some, [(value, 0, source.randint(0, 2)) for value in source.sample(range(4), 2)])
+
+
+def random_parts(source, most_names=4, most_rules=5, *, least=1):
+    """Return domains with values from 0 to 3, and keyed rules, for a puzzle."""
+    names = ["d", "a", "c", "b"][:source.randint(1, most_names)]
+    domains = [(name, source.sample(range(4), source.randint(least, 4))) for name in names]
+    rules = [(f"r{k}", random_rule(source, names)) for k in range(source.randint(0, most_rules))]
+    return domains, rules
+
+
+def random_assumptions(source, domains, most):
+    assumptions = []
+    for _ in range(source.randint(0, most)):
+        name, values = source.choice(domains)
+        assumptions.append((name, sorted(value for value in set(values) if source.random() < 0.7)))
+    return assumptions
+
+
+def slow_supported(rule, box, name):
+    return sorted({values[name] for values in all_in(box, rule.names) if rule.allows(values)})
+
+
+def slow_settled(domains, rules, assumptions=()):
+    """Return the settled box, by striking single values until none has to go."""
+    box = {name: sorted(set(values)) for name, values in domains}
+    for name, side in assumptions:
+        box[name] = [value for value in box[name] if value in side]
+    changed = True
+    while changed:
+        changed = False
+        for _, rule in rules:
+            for name in rule.names:
+                side = slow_supported(rule, box, name)
+                changed = changed or side != box[name]
+                box[name] = side
+    if not all(box.values()):
+        return {name: [] for name in box}
+    return box
+
+
+def slow_answers(domains, rules, box=None):
+    form = {name: sorted(set(values)) for name, values in domains}
+    answers = [values for values in all_in(form) if all(rule.allows(values) for _, rule in rules)]
+    return [values for values in answers if held(box or {}, values)]
 
 
 def break_of(edges, box, steps):

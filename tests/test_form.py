@@ -106,7 +106,23 @@ class FormTest(unittest.TestCase):
                     self.assertNotIn(name, BUILTINS | BARRED_NAMES, place)
                     if not isinstance(node, (ast.ClassDef, ast.FunctionDef)):
                         self.assertNotIn(name, imported | classes, place)
-                    self.assertTrue(name == "__init__" or not name.startswith("__"), place)
+                    own = ("__init__", "__contains__", "__iter__")
+                    self.assertTrue(name in own or not name.startswith("__"), place)
+
+    def test_properties_and_operators_change_nothing(self):
+        """They are so short that it is plain to see: a docstring perhaps, and one statement that returns."""
+        for path, _, tree in parsed():
+            for node in ast.walk(tree):
+                if isinstance(node, ast.FunctionDef) and self.runs_without_a_call(node):
+                    rows = [row for row in node.body if not isinstance(row, ast.Expr)]
+                    place = f"{path.name} {node.lineno}"
+                    self.assertEqual([row.__class__ for row in rows], [ast.Return], place)
+                    for part in ast.walk(rows[0]):
+                        if isinstance(part, ast.Call):
+                            self.assertIn(ast.unparse(part.func), ("len", "iter"), place)
+
+    def runs_without_a_call(self, node):
+        return bool(node.decorator_list) or node.name.startswith("__") and node.name != "__init__"
 
     def test_words_and_strings(self):
         for path, text, _ in parsed():
