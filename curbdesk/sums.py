@@ -3,7 +3,7 @@
 from curbdesk.errors import BadBounds
 from curbdesk.layers import live_layers, next_layer, sum_layers, within_bounds
 from curbdesk.rules import checked_names, first_empty, shows_empty
-from curbdesk.sides import common, is_within
+from curbdesk.sides import is_within
 
 
 class Sum:
@@ -37,15 +37,10 @@ class Sum:
 
     def supported(self, box, name):
         """Return the values that the name takes in the allowed assignments in the box."""
-        live = self._live(box)
-        place = self.names.index(name)
-        coefficient = self.terms[place][0]
-        kept = []
-        for value in box[name]:
-            sums = next_layer(live[place], coefficient, [value])
-            if len(common(sums, live[place + 1])) > 0:
-                kept.append(value)
-        return kept
+        others = [(coefficient, other) for coefficient, other in self.terms if other != name]
+        totals = sum_layers(others, box)[-1]
+        coefficient = self.terms[self.names.index(name)][0]
+        return [value for value in box[name] if self._reaches(totals, coefficient * value)]
 
     def certificate(self, box):
         """Return what shows that the box is bare, or None if it is not."""
@@ -65,6 +60,13 @@ class Sum:
 
     def _live(self, box):
         return live_layers(self.terms, box, low=self.low, high=self.high)
+
+    def _reaches(self, totals, part):
+        """Tell whether one of the totals, which ascend, is within the bounds together with this part."""
+        for total in totals:
+            if self.low is None or self.low <= total + part:
+                return within_bounds(total + part, self.low, self.high)
+        return False
 
     def _excludes(self, box, layers):
         """Tell whether the layers have all sums of the box, and no total within the bounds."""

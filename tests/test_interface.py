@@ -67,6 +67,33 @@ FUNCTIONS = {
     "plain": {
         "plain_answers": "(puzzle, *, box=None)",
     },
+    "reasons": {
+        "widest_bare": "(rule, box, *, limits)",
+        "least_reason": "(rule, box, name, value, *, limits)",
+    },
+    "roots": {
+        "clashes": "(puzzle, assumptions)",
+        "least_clash": "(puzzle, assumptions)",
+        "least_roots": "(puzzle, assumptions, name, value)",
+    },
+    "cores": {
+        "least_rules": "(puzzle, box)",
+        "widest_closed": "(puzzle, box)",
+    },
+    "worths": {
+        "checked_worth": "(puzzle, worth)",
+        "worth_of": "(worth, values)",
+        "best_in": "(worth, box, *, greatest=False)",
+    },
+    "checker": {
+        "check_log": "(puzzle, lines, *, worth=None, greatest=False)",
+    },
+    "notation": {
+        "line_text": "(line)",
+        "parse_line": "(text)",
+        "log_text": "(lines)",
+        "parse_log": "(text)",
+    },
 }
 
 # Stands in the place of a signature.
@@ -170,6 +197,17 @@ CLASSES = {
             "probe": "(self, assumptions)",
             "trail": "(self)",
             "reason": "(self, name, value)",
+        },
+    },
+    "checker": {
+        "Checker": {
+            "__init__": "(self, puzzle, *, worth=None, greatest=False)",
+            "size": PROPERTY,
+            "is_closed": PROPERTY,
+            "best_worth": PROPERTY,
+            "read": "(self, line)",
+            "box_of": "(self, number)",
+            "told_answers": "(self)",
         },
     },
 }
