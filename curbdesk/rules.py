@@ -31,7 +31,10 @@ def row_of(names, values):
 
 def row_within(names, row, box):
     """Tell whether the row is an assignment of the names in the box."""
-    return all([value in box[name] for name, value in zip(names, row)])
+    for name, value in zip(names, row):
+        if value not in box[name]:
+            return False
+    return True
 
 
 def restricted(names, box):

@@ -225,6 +225,23 @@ def random_parts(source, most_names=4, most_rules=5, *, least=1):
     return domains, rules
 
 
+def hard_parts(source):
+    """Return domains and keyed rules for a puzzle with two or three values, in which settling does not do much."""
+    names = list("caebd")
+    domains = [(name, source.sample(range(3), source.choice([2, 2, 3]))) for name in names]
+    rules = []
+    for number in range(source.randint(8, 14)):
+        some = source.sample(names, 3)
+        rows = [[source.choice(dict(domains)[name]) for name in some] for _ in range(source.randint(1, 3))]
+        rule = Ban(some, rows)
+        if source.random() < 0.15:
+            rule = Sum([(source.choice([-1, 1, 2]), name) for name in some], high=source.randint(2, 5))
+        elif source.random() < 0.1:
+            rule = Counts(some, [(value, 0, 2) for value in range(3)])
+        rules.append((f"r{number}", rule))
+    return domains, rules
+
+
 def random_assumptions(source, domains, most):
     assumptions = []
     for _ in range(source.randint(0, most)):

@@ -8,6 +8,8 @@ import unittest
 
 PACKAGE = pathlib.Path(__file__).resolve().parent.parent / "curbdesk"
 
+SEARCH = "order=None, greatest_first=False, learn=True, restart_after=0"
+
 FUNCTIONS = {
     "sides": {
         "side_of": "(values)",
@@ -93,6 +95,24 @@ FUNCTIONS = {
         "parse_line": "(text)",
         "log_text": "(lines)",
         "parse_log": "(text)",
+    },
+    "books": {
+        "rests_on": "(lines, number)",
+        "pruned": "(lines, number)",
+        "without_key": "(lines, key)",
+        "renumbered": "(lines, offset)",
+    },
+    "derive": {
+        "clash_lines": "(puzzle, assumptions)",
+        "strike_lines": "(puzzle, assumptions, name, value)",
+        "closing_lines": "(puzzle, box)",
+    },
+    "answers": {
+        "first_answer": f"(puzzle, *, {SEARCH})",
+        "all_answers": f"(puzzle, *, {SEARCH})",
+    },
+    "best": {
+        "best_answer": f"(puzzle, worth, *, greatest=False, {SEARCH})",
     },
 }
 
@@ -208,6 +228,45 @@ CLASSES = {
             "read": "(self, line)",
             "box_of": "(self, number)",
             "told_answers": "(self)",
+        },
+    },
+    "answers": {
+        "Result": None,
+    },
+    "history": {
+        "History": {
+            "__init__": "(self, start)",
+            "state": PROPERTY,
+            "steps": PROPERTY,
+            "undone": PROPERTY,
+            "push": "(self, state)",
+            "undo": "(self)",
+            "redo": "(self)",
+            "back_to": "(self, steps)",
+        },
+    },
+    "desk": {
+        "Desk": {
+            "__init__": "(self)",
+            "steps": PROPERTY,
+            "undone": PROPERTY,
+            "declare": "(self, name, values)",
+            "post": "(self, key, rule)",
+            "exchange": "(self, key, rule)",
+            "withdraw": "(self, key)",
+            "write": "(self, line)",
+            "derive": "(self, box)",
+            "attempt": "(self, deeds)",
+            "undo": "(self)",
+            "redo": "(self)",
+            "back_to": "(self, steps)",
+            "puzzle": "(self)",
+            "box": "(self)",
+            "book": "(self)",
+            "resting": "(self, number)",
+            "find_first": "(self, *, order=None, greatest_first=False)",
+            "find_all": "(self, *, order=None, greatest_first=False)",
+            "find_best": "(self, worth, *, greatest=False, order=None, greatest_first=False)",
         },
     },
 }
