@@ -6,7 +6,7 @@ from curbdesk.sides import without
 
 
 class Course:
-    """What strikes values until the box is settled or a side is empty, from the beginning for each assumptions.
+    """What strikes values under assumptions until the box is settled or a side is empty; each run begins anew.
 
     Besides the rules of the puzzle there may be bars, each of which forbids some names to have certain values at once,
     and one rule that demands something better than the answers told so far.
@@ -78,7 +78,8 @@ class Course:
         if struck is None:
             # All names have the bar's values, so any of them loses its last value.
             struck = list(values)[0]
-        self._strike_all([(struck, values[struck])], source, {name: (value,) for name, value in values.items()})
+        sides = {other: (needed,) for other, needed in values.items()}
+        self._strike_all([(struck, values[struck])], source, sides)
 
     def _ask_rule(self, source, rule):
         sides = tuple([self.sides[name] for name in rule.names])

@@ -54,7 +54,8 @@ def _close(course, scribe, box):
 
 def _last_case(course, scribe, box):
     """Write lines that close the box with each value of a name, and return the line that joins the last of them."""
-    name, side = [(name, side) for name, side in course.sides.items() if len(side) > 1][0]
+    name = [each for each, values in course.sides.items() if len(values) > 1][0]
+    side = course.sides[name]
     number = _close(course, scribe, {**box, name: [side[0]]})
     join = None
     for place in range(1, len(side)):

@@ -4,7 +4,6 @@ from curbdesk.answers import all_answers, first_answer
 from curbdesk.best import best_answer
 from curbdesk.books import copied_line, renumbered, rests_on, without_key
 from curbdesk.checker import plain_fault
-from curbdesk.cores import check_closed
 from curbdesk.derive import closing_lines
 from curbdesk.errors import BadDeed, BadLine
 from curbdesk.history import History
@@ -164,7 +163,7 @@ def _written(page, line):
 
 
 def _derived(page, box):
-    check_closed(page.held, box)
+    # A box that the book has holds no answer and lists nothing unknown, so it needs no check.
     for number, line in enumerate(page.lines, start=1):
         if line[1] == box:
             return (None, number)

@@ -107,8 +107,8 @@ def _parsed_box(parts):
     if parts == ["*"]:
         return box
     for part in parts:
-        name, sign, values = part.partition("=")
-        _require(sign == "=")
+        # Without a sign "=" nothing is left for the values, which is no side.
+        name, _, values = part.partition("=")
         box[_parsed_name(name)] = _parsed_side(values)
     # A name that occurs twice makes the box shorter than its parts.
     _require(list(box) == sorted(box) and len(box) == len(parts))

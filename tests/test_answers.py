@@ -187,6 +187,16 @@ class StepsTest(AnswersCase):
             with self.assertRaises(TypeError):
                 function(example(), ["x", "y"])
 
+    def test_a_bar_whose_names_all_have_its_values(self):
+        """The table leaves the bar's values to both of its names at once, before the bar can strike one."""
+        domains = [(name, [1, 2]) for name in "zxyw"]
+        bans = [("b", Ban(["x", "y", "w"], [(1, 1, 1)])), ("c", Ban(["x", "y", "w"], [(1, 1, 2)]))]
+        table = Table(["z", "x", "y"], [(1, 1, 1), (1, 1, 2), (1, 2, 1), (1, 2, 2), (2, 1, 1)])
+        for named in ({}, {"learn": False}, {"restart_after": 1}):
+            result = self.check_search(domains, bans + [("t", table)], "all", **named)
+            self.assertEqual(len(result.answers), 6)
+        self.assertIn([("x", 1), ("y", 1)], result.nogoods)
+
     def test_random(self):
         source = seeded(93)
         for _ in range(150):
